@@ -800,3 +800,19 @@ func TestRulesOfZero(t *testing.T) {
 		t.Error("the zero value does not give as the server 0 without a lead")
 	}
 }
+
+// Rules with all numbers below 0 are those of the other server, without a lead.
+func TestRulesBelowZero(t *testing.T) {
+	for _, r := range []grant.Rules{{Id: -1, Lead: -1, Guard: -1}, {Id: -9, Lead: -10, Guard: -2}, {Id: math.MinInt, Lead: math.MinInt, Guard: math.MinInt}} {
+		if r.Until(5, 100, 0) != 5 || r.Until(5, 100, 50) != 50 || r.Until(-5, -100, -50) != 0 || r.Own() != api.Backup {
+			t.Errorf("%+v does not answer as rules without a lead", r)
+		}
+		if l := r.Lease(lease.Bare(3, api.Backup, 7), "a", 9, 100); l != held("a", 9, 0, 0, 9, 7) {
+			t.Errorf("%+v.Lease of a Backup one = %+v", r, l)
+		}
+		checkMay(t, r, lease.Bare(3, api.Backup, 7), api.Normal, 0, 0, true)
+		checkMay(t, r, lease.Bare(3, api.Free, 7), api.Normal, 9, 0, false)
+		checkMay(t, r, lease.Bare(3, api.Free, 7), api.PartnerDown, 5, 5, false)
+		checkMay(t, r, lease.Bare(3, api.Free, 7), api.PartnerDown, 6, 5, true)
+	}
+}
